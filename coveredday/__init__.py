@@ -1,0 +1,1 @@
+"""Coveredday: a market day whose house must never pay."""
