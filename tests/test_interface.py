@@ -1,0 +1,88 @@
+"""The interface of the document: names, arguments and where they are defined."""
+
+import importlib
+import inspect
+import unittest
+
+# For each module: functions with their arguments, and classes with their own methods and properties.
+FUNCTIONS = {
+    "names": ["is_whole(thing, low, high)", "is_name(thing)", "checked_goods(goods)", "assets(goods)"],
+    "orders": ["meets(one, other)"],
+    "closure": ["closed_sums(assets, rows)"],
+    "moves": [
+        "still(goods)", "check_move(goods, move)", "parting(goods, move, up, down)", "fits(move, table)",
+        "first_broken(move, table)", "extreme_move(table, up, down)"],
+    "tablesums": [
+        "total(goods, *tables)", "all_at_once(table, *others)", "greatest(table, *others)",
+        "extreme_moves(up, down, *tables)"],
+    "pairing": ["pairing(position, table)", "cost_of(pairs, table)"],
+    "worstmove": ["worst_move(position, table)"],
+    "cover": [
+        "cover(position, table)", "cover_amount(position, table)", "cover_over(position, *tables)",
+        "worst_moves(position, *tables)"],
+    "coverjudge": ["pairs_fault(position, pairs)", "move_fault(table, move)", "cover_fault(position, table, told)"],
+}
+CLASSES = {
+    "orders Order(member, thing, side, count, limit)": ["sign", "of_count(self, count)", "__eq__(self, other)"],
+    "orderbook OrderBook()": [
+        "place(self, order)", "would_fill(self, order)", "order(self, number)", "cancel(self, number)",
+        "cancel_all(self, member)", "open_of(self, member)", "best(self, thing, side)", "levels(self, thing, side)",
+        "copied(self)", "__iter__(self)", "__len__(self)"],
+    "position Position(goods, counts)": [
+        "flat(goods)", "single(goods, good, count=1)", "__getitem__(self, at)", "__add__(self, other)",
+        "__sub__(self, other)", "__neg__(self)", "__mul__(self, other)", "__iter__(self)", "is_flat",
+        "worth(self, prices)", "loss(self, move)", "__eq__(self, other)"],
+    "parcels Parcels(goods, rows=())": [
+        "things", "contents(self, parcel)", "apart(self, thing, count=1)", "worth(self, thing, prices)",
+        "__eq__(self, other)"],
+    "holdings Holdings(parcels)": [
+        "put(self, thing, count)", "count_of(self, thing)", "take_apart(self, parcel, count)",
+        "put_together(self, parcel, count)", "greatest_apart(self, parcel)", "greatest_together(self, parcel)",
+        "all_apart(self)", "position_now(self)", "clear(self)", "copied(self)", "__iter__(self)"],
+    "tables Table(goods, rows, *, cap=1000000000000)": [
+        "entries", "full(goods, most, *, cap=1000000000000)", "__getitem__(self, at)", "__iter__(self)",
+        "__eq__(self, other)", "__add__(self, other)", "__and__(self, other)", "__or__(self, other)",
+        "chain(self, up, down)", "within(self, other)", "first_above(self, other)", "lowered(self, up, down, by=1)"],
+    "cover Cover(amount, pairs, move)": [],
+}
+
+
+
+class TestInterface(unittest.TestCase):
+    def test_functions(self):
+        for place, functions in FUNCTIONS.items():
+            module = importlib.import_module("coveredday." + place)
+            for told in functions:
+                name = told.split("(")[0]
+                function = vars(module)[name]
+                self.assertEqual(name + str(inspect.signature(function)), told)
+                self.assertEqual(function.__module__, module.__name__)
+
+    def test_classes_and_their_own_methods(self):
+        for heading, members in CLASSES.items():
+            place, told = heading.split(" ", 1)
+            module = importlib.import_module("coveredday." + place)
+            kind = vars(module)[told.split("(")[0]]
+            self.assertEqual(kind.__name__ + str(inspect.signature(kind)), told)
+            self.assertEqual(kind.__module__, module.__name__)
+            for member in members:
+                self.assertEqual(self.shape(kind, member.split("(")[0]), member)
+
+    def shape(self, kind, name):
+        """How the member that the class itself defines is called: a property by its name alone."""
+        own = vars(kind)[name]
+        if isinstance(own, property):
+            return name
+        called = getattr(kind, name) if isinstance(own, classmethod) else own
+        return name + str(inspect.signature(called))
+
+    def test_operators_that_are_not_told_are_missing(self):
+        from coveredday.position import Position
+        one = Position(("oil",), (3,))
+        for call in (lambda: 2 * one, lambda: one * True, lambda: one * one, lambda: one / 1, lambda: len(one)):
+            with self.assertRaises(TypeError):
+                call()
+
+
+if __name__ == "__main__":
+    unittest.main()
