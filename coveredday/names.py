@@ -37,6 +37,13 @@ def is_number_row(thing, length):
     return is_row(thing, length) and all([is_integer(number) for number in thing])
 
 
+def as_tuples(thing):
+    """The thing, any object, with all lists in it, at any depth, as tuples."""
+    if not is_sequence(thing):
+        return thing
+    return tuple([as_tuples(part) for part in thing])
+
+
 def is_name(thing):
     """Whether thing, any object, is a name."""
     if not isinstance(thing, str) or not 1 <= len(thing) <= _LONGEST_NAME:

@@ -122,7 +122,9 @@ class TestLanguage(unittest.TestCase):
             self.assertFalse((local | stored | own | module) & set(dir(__builtins__) if not isinstance(
                 __builtins__, dict) else __builtins__), name)
             read = {node.id for node in ast.walk(tree) if isinstance(node, ast.Name) and isinstance(node.ctx, ast.Load)}
-            self.assertLessEqual(read, own | bound | module | local | stored | BUILTINS, name)
+            caught = {node.name for node in ast.walk(tree) if isinstance(node, ast.ExceptHandler)}
+            self.assertFalse(caught & (bound | own | module | local | stored), name)
+            self.assertLessEqual(read, own | bound | module | local | stored | caught | BUILTINS, name)
             self.assertNotIn("_", read)
             words = set(re.findall(r"\w+", "\n".join(self.without_docstrings(name))))
             self.assertFalse(words & BARRED, name)
