@@ -21,6 +21,24 @@ FUNCTIONS = {
         "cover(position, table)", "cover_amount(position, table)", "cover_over(position, *tables)",
         "worst_moves(position, *tables)"],
     "coverjudge": ["pairs_fault(position, pairs)", "move_fault(table, move)", "cover_fault(position, table, told)"],
+    "fills": [
+        "equity(cash, position, prices)", "slack(cash, position, prices, table)", "worst_fill(account, prices, table)",
+        "is_covered(account, prices, table)", "least_cancels(account, prices, table)"],
+    "accountjudge": [
+        "certificate(account, prices, table)", "covered_fault(account, prices, table, covered)",
+        "lacking_fault(account, prices, table, lacking)"],
+    "room": ["room(account, order, prices, table)"],
+    "walks": [
+        "walk_fault(plan, walk, behind=None)", "walk_table(plan, walk, behind=None)", "reachable(plan)",
+        "shortest_walk(plan, node, *, holding)"],
+    "phases": [
+        "next_phases(plan, group, node, phase)", "ends(plan, node, phase)", "openings(plan, group)",
+        "states(plan, group)", "steps(plan, group, state)"],
+    "windows": ["windows(plan, group, length)", "window_fault(plan, window)", "window_table(plan, window)"],
+    "longest": ["longest(plan, group, end, up, down)", "potentials(plan, group, end, up, down)"],
+    "verdict": ["verdict(plan)"],
+    "verdictjudge": ["safe_fault(plan, papers)", "breach_fault(plan, breach)"],
+    "daymaker": ["day_of(plan, breach)"],
 }
 CLASSES = {
     "orders Order(member, thing, side, count, limit)": ["sign", "of_count(self, count)", "__eq__(self, other)"],
@@ -44,8 +62,27 @@ CLASSES = {
         "__eq__(self, other)", "__add__(self, other)", "__and__(self, other)", "__or__(self, other)",
         "chain(self, up, down)", "within(self, other)", "first_above(self, other)", "lowered(self, up, down, by=1)"],
     "cover Cover(amount, pairs, move)": [],
+    "account Account(cash, position, orders=(), *, parcels)": [
+        "with_order(self, order)", "without(self, indices)", "filled(self, taken)", "after(self, taken)",
+        "corners(self)"],
+    "fills WorstFill(least, taken, found)": [],
+    "accountjudge Covered(pairings)": ["is_covered"],
+    "accountjudge Lacking(taken, move)": ["is_covered"],
+    "plan Plan(goods, tables, groups, nodes)": [
+        "kind(self, node)", "step(self, node)", "looks_at(self, node, group)", "followers(self, node)",
+        "edge_table(self, one, other)", "table_named(self, name)", "cover_table(self, group)", "__iter__(self)",
+        "__eq__(self, other)"],
+    "phases Step(node, state, table, end)": ["__eq__(self, other)"],
+    "windows Window(group, opening, walk, end)": ["__eq__(self, other)"],
+    "breach Breach(group, end, up, down, *, opening, lead, first, ring, tail, turns, phase, excess)": [
+        "walk_length", "is_safe", "__eq__(self, other)"],
+    "breach Day(prices, members, deeds)": ["__eq__(self, other)"],
+    "safe Safe(papers)": ["potential(self, group, end, up, down)", "is_safe"],
+    "daybook DayBook(happenings)": [
+        "of(self, word)", "since(self, count)", "cash_change(self, member)", "__iter__(self)", "__len__(self)",
+        "__eq__(self, other)"],
 }
-
+GENERATORS = ("windows windows", "account Account.corners")
 
 
 class TestInterface(unittest.TestCase):
@@ -67,6 +104,14 @@ class TestInterface(unittest.TestCase):
             self.assertEqual(kind.__module__, module.__name__)
             for member in members:
                 self.assertEqual(self.shape(kind, member.split("(")[0]), member)
+
+    def test_generators(self):
+        for told in GENERATORS:
+            place, name = told.split(" ")
+            found = importlib.import_module("coveredday." + place)
+            for part in name.split("."):
+                found = vars(found)[part]
+            self.assertTrue(inspect.isgeneratorfunction(found), told)
 
     def shape(self, kind, name):
         """How the member that the class itself defines is called: a property by its name alone."""
