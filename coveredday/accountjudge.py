@@ -1,10 +1,10 @@
 """Certificates that an account is covered or is not, and their judges, which search nothing."""
 
 from coveredday.coverjudge import pairs_fault
-from coveredday.errors import BadFill
-from coveredday.fills import check_market, equity, worst_fill
+from coveredday.errors import BadFill, BadPrices
+from coveredday.fills import equity, worst_fill
 from coveredday.moves import first_broken
-from coveredday.names import is_number_row, is_row
+from coveredday.names import check_same_goods, is_number_row, is_row
 from coveredday.pairing import cost_of, pairing
 
 
@@ -48,6 +48,13 @@ class Lacking:
         return False
 
 
+def _check_market(position, prices, table):
+    """Raises BadPrices, then OtherGoods, unless prices, any object, and the table are of the position's goods."""
+    if not is_number_row(prices, len(position.goods)):
+        raise BadPrices()
+    check_same_goods(position.goods, table)
+
+
 def certificate(account, prices, table):
     """A Covered or a Lacking, whichever is right."""
     worst = worst_fill(account, prices, table)
@@ -59,7 +66,7 @@ def certificate(account, prices, table):
 
 def covered_fault(account, prices, table, covered):
     """What is wrong with a Covered of any object, as a tuple that begins with a word, or None."""
-    check_market(account.position, prices, table)
+    _check_market(account.position, prices, table)
     rows = [account.filled(taken) for taken in account.corners()]
     if not is_row(covered.pairings, len(rows)):
         return ("pairings",)
@@ -76,7 +83,7 @@ def covered_fault(account, prices, table, covered):
 
 def lacking_fault(account, prices, table, lacking):
     """What is wrong with a Lacking of any objects, as a tuple that begins with a word, or None."""
-    check_market(account.position, prices, table)
+    _check_market(account.position, prices, table)
     try:
         cash, position = account.filled(lacking.taken)
     except BadFill as fault:

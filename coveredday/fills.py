@@ -1,15 +1,6 @@
 """Equity and slack, the worst fill of an account, and the orders to cancel so that it is covered."""
 
 from coveredday.cover import cover, cover_amount
-from coveredday.errors import BadPrices
-from coveredday.names import check_same_goods, is_number_row
-
-
-def check_market(position, prices, table):
-    """Raises BadPrices, then OtherGoods, unless prices, any object, and the table are of the position's goods."""
-    if not is_number_row(prices, len(position.goods)):
-        raise BadPrices()
-    check_same_goods(position.goods, table)
 
 
 def equity(cash, position, prices):
@@ -19,7 +10,6 @@ def equity(cash, position, prices):
 
 def slack(cash, position, prices, table):
     """The equity less the cover of the position; prices are any object."""
-    check_market(position, prices, table)
     return equity(cash, position, prices) - cover_amount(position, table)
 
 

@@ -89,7 +89,7 @@ def _is_turning(plan, breach):
     for walk in (breach.ring, breach.tail):
         if not walk or walk_fault(plan, walk, turn) is not None:
             return False
-    if breach.ring[-1] != turn or breach.phase not in PHASES:
+    if breach.ring[-1] != turn:
         return False
     if breach.phase not in phases_along(plan, breach.group, breach.opening[1], breach.first)[-1]:
         return False

@@ -45,6 +45,9 @@ class TestClasses(Promises):
         for rows in (outer, taken, move):
             rows.append(None)
         self.same(covered.pairings, ([["oil", "cash", 1]],))
+        within = Covered(((inner,),))
+        inner.clear()
+        self.same(within.pairings, (([["oil", "cash", 9], None],),))
         self.same((lacking.taken, lacking.move), ((1,), (2,)))
 
 

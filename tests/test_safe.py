@@ -13,7 +13,7 @@ from tests.test_phases import TWO_GROUPS
 
 NUMBERS = ((("gap", "empty"), 3), ((None, "empty"), 0))
 ROWS = (("firm", "free", "cash", "oil", ()), ("firm", "stand", "oil", "cash", NUMBERS),
-        ("other", "stand", "rye", "cash", NUMBERS[:1]))
+        ("other", "stand", "rye", "tin", NUMBERS[:1]))
 
 
 def safe_plan():
@@ -25,7 +25,7 @@ def safe_plan():
 class TestSafe(Promises):
     def test_tuples_throughout(self):
         papers = [["firm", "free", "cash", "oil", []], ["firm", "stand", "oil", "cash", [[["gap", "empty"], 3], [[None, "empty"], 0]]],
-                  ["other", "stand", "rye", "cash", [[["gap", "empty"], 3]]]]
+                  ["other", "stand", "rye", "tin", [[["gap", "empty"], 3]]]]
         safe = Safe(papers)
         papers[1][4][0][0].pop()
         papers.pop()
@@ -44,12 +44,14 @@ class TestSafe(Promises):
             self.fails(NoGroup, (thing,), Safe(()).potential, thing, thing, thing, thing)
             self.fails(BadEnd, (thing,), safe.potential, "firm", thing, thing, thing)
             if thing not in ("oil", "rye", "cash"):
-                self.fails(NoAsset, (thing,), safe.potential, "other", "free", thing, "tin")
+                self.fails(NoAsset, (thing,), safe.potential, "other", "free", thing, "gold")
                 self.fails(NoAsset, (thing,), safe.potential, "firm", "stand", "oil", thing)
-        for asset in ("oil", "rye", "cash"):
+        for asset in ("oil", "rye", "cash", "tin"):
             self.fails(SamePair, (asset,), safe.potential, "firm", "stand", asset, asset)
-        self.fails(NoAsset, ("tin",), safe.potential, "firm", "stand", "tin", "tin")
-        self.fails(NoGroup, ("more",), safe.potential, "more", "stand", "tin", "tin")
+        for word in ("gold", "firm", "other", "free", "stand"):
+            self.fails(NoAsset, (word,), safe.potential, "firm", "stand", word, word)
+            self.fails(NoAsset, (word,), safe.potential, "firm", "stand", "oil", word)
+        self.fails(NoGroup, ("more",), safe.potential, "more", "stand", "gold", "gold")
 
     def test_papers_of_a_verdict(self):
         plan = safe_plan()

@@ -4,6 +4,7 @@ import random
 import unittest
 
 from coveredday.breach import Breach
+from coveredday.daymaker import day_of
 from coveredday.longest import longest, potentials
 from coveredday.plan import Plan
 from coveredday.safe import Safe
@@ -12,7 +13,7 @@ from coveredday.verdict import verdict
 from coveredday.verdictjudge import breach_fault, safe_fault
 from tests.common import Promises, moves_within
 from tests.plans import GROUPS, OIL, TABLES, busy_plan, chain_plan, example_plan, forward_plan, random_plan
-from tests.smallhouse import Refused, SmallHouse
+from tests.smallhouse import Refused, SmallHouse, played
 from tests.test_longest import raised, sums_of, window_sum
 from tests.test_phases import told_openings
 from tests.test_safe import safe_plan
@@ -151,6 +152,29 @@ class TestSums(Promises):
         self.same((told.group, told.end, told.up, told.down, told.excess), ("firm", "free", "cash", "oil", 2))
         plan = chain_plan(("desk",), ("move", "deep"), ("close",), groups=(("other", "deep"), ("firm", "day")))
         self.same((verdict(plan).group, verdict(plan).end, verdict(plan).excess), ("firm", "stand", 2))
+
+    def test_the_opening_with_the_greatest_sum(self):
+        tables = TABLES + (("none", Table.full(OIL, 0)), ("one", Table.full(OIL, 1)))
+        nodes = [("na", ("rest",), [("nb", None), ("nf", None)]), ("nb", ("tell",), [("nc", None)]),
+                 ("nc", ("desk",), [("nd", None)]), ("nd", ("move", "one"), [("ne", None)]),
+                 ("ne", ("close",), [("ne", None)]), ("nf", ("tell",), [("ng", None)]),
+                 ("ng", ("desk",), [("nh", None)]), ("nh", ("move", "deep"), [("ne", None)])]
+        plan = Plan(OIL, tables, [("firm", "none")], nodes)
+        told = verdict(plan)
+        self.same((told.opening, told.excess, breach_fault(plan, told)), (("nf", "empty"), 4, None))
+        self.same(played(plan, day_of(plan, told)).paid, 4)
+
+    def test_a_lead_on_which_something_is_held(self):
+        # Who stands since the desk is closed out behind the look; who holds something may stand since then.
+        nodes = [("na", ("rest",), [("nc", None), ("nb", None)]), ("nb", ("desk",), [("nc", None)]),
+                 ("nc", ("tell",), [("nd", None)]), ("nd", ("look", ("firm",)), [("ne", None)]),
+                 ("ne", ("close",), [("nf", None)]), ("nf", ("move", "deep"), [("ng", None)]),
+                 ("ng", ("close",), [("ng", None)])]
+        plan = Plan(OIL, TABLES, [("firm", "day")], nodes)
+        told = verdict(plan)
+        self.same((told.opening, told.lead, told.excess), (("nc", "holding"), ("na", "nb", "nc"), 2))
+        self.same(breach_fault(plan, told), None)
+        self.same(played(plan, day_of(plan, told)).paid, 2)
 
     def test_endless_sums_with_great_allowances(self):
         nodes = [("na", ("desk",), [("nb", None)]), ("nb", ("move", "one"), [("nb", None), ("nc", None)]),

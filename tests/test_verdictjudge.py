@@ -187,6 +187,18 @@ class TestSafeFault(Promises):
             self.papers[at][4] = [[state, number if state == ("na", "empty") else told] for state, told in numbers.items()]
             self.word(expected)
 
+    def test_a_step_that_ends_asks_for_its_weight(self):
+        self.plan = chain_plan(("desk",), ("move", "day"), ("close",), ("rest",))
+        papers = [list(row) for row in verdict(self.plan).papers]
+        at = sums_of(self.plan).index(("firm", "stand", "oil", "cash"))
+        numbers = dict(papers[at][4])
+        self.same(numbers["nb", "stand"], 2)
+        for number, expected in ((0, "step"), (1, "step"), (2, None), (3, "step")):
+            papers[at][4] = [(state, number if state == ("nb", "stand") else told) for state, told in numbers.items()]
+            self.word(expected, papers)
+        papers[at][4] = [(state, told) for state, told in numbers.items() if state != ("nb", "stand")]
+        self.word("step", papers)
+
     def test_a_plan_without_windows(self):
         self.plan = chain_plan(("move", "day"), ("rest",))
         rows = [row + ((),) for row in sums_of(self.plan)]
@@ -258,6 +270,21 @@ class TestBreachFault(Promises):
         self.word("window", ring=())
         self.word("window", tail=("shift", "bar", "gap"))
         self.word("window", end="free")
+        self.word("window", end="free", phase="free")
+        self.word("window", ring=("shift", "bar", "gap"))
+        self.word("window", ring=("shift", "bar", "gap", "till", "shift"))
+        self.word(None, ring=RIGHT["ring"] * 2, turns=1)
+
+    def test_leads_by_desk_and_free_nodes(self):
+        for kind, expected in (("desk", None), ("free", None), ("rest", "lead"), ("tell", "lead")):
+            nodes = [("na", ("rest",), [("nb", None), ("nc", None)]), ("nb", (kind,), [("nc", None)]),
+                     ("nc", ("tell",), [("nd", None)]), ("nd", ("look", ("firm",)), [("ne", None)]),
+                     ("ne", ("move", "deep"), [("nf", None)]), ("nf", ("close",), [("nf", None)])]
+            plan = Plan(OIL, TABLES, [("firm", "day")], nodes)
+            parts = {"group": "firm", "end": "stand", "up": "oil", "down": "cash", "opening": ("nc", "holding"),
+                     "first": (), "ring": (), "tail": ("nd", "ne", "nf"), "turns": 0, "phase": None, "excess": 2}
+            self.same(breach_fault(plan, Breach(lead=("na", "nb", "nc"), **parts)), expected)
+            self.same(breach_fault(plan, Breach(lead=("na", "nc"), **parts)), "lead")
 
     def test_a_window_without_turns(self):
         walk = ("till", "shift", "bar", "gap") * 2 + ("till", "shift", "bar")
