@@ -24,6 +24,7 @@ namedtuple NamedTuple TypedDict TYPE_CHECKING abstractmethod""".split())
 FORBIDDEN = (ast.Global, ast.AsyncFunctionDef, ast.AsyncFor, ast.AsyncWith, ast.Await, ast.Div, ast.Import, ast.TryStar,
              ast.MatMult)
 TAKERS = ("list", "tuple", "dict", "sorted", "sum", "enumerate", "zip")
+CHANGING = set("""append clear extend insert pop remove reverse setdefault sort update add discard""".split())
 LIBRARY = {"heapq": "heapify heapreplace heappushpop heappush heappop", "math": "gcd lcm isqrt comb perm factorial"}
 
 
@@ -34,6 +35,58 @@ def parents_of(tree):
 def called(node):
     """The bare name that a call calls, or None."""
     return node.func.id if isinstance(node, ast.Call) and isinstance(node.func, ast.Name) else None
+
+
+def alike_names(function):
+    """For each name that a function assigns the names that may stand for the same list, itself included."""
+    alike = {node.id: {node.id} for node in ast.walk(function) if isinstance(node, ast.Name)}
+    for node in ast.walk(function):
+        if isinstance(node, ast.Assign) and isinstance(node.value, ast.Name):
+            for target in node.targets:
+                if isinstance(target, ast.Name):
+                    together = alike[target.id] | alike[node.value.id]
+                    for name in together:
+                        alike[name] = together
+    return alike
+
+
+def walked_names(node):
+    """The names of what a loop or a comprehension goes over, also through zip, enumerate, items and choices."""
+    if isinstance(node, ast.Name):
+        return {node.id}
+    parts = []
+    if called(node) in ("zip", "enumerate", "reversed"):
+        parts = node.args
+    elif isinstance(node, ast.Call) and isinstance(node.func, ast.Attribute):
+        parts = [node.func.value] if node.func.attr in ("items", "keys", "values") else []
+    elif isinstance(node, ast.IfExp):
+        parts = [node.body, node.orelse]
+    elif isinstance(node, ast.BoolOp):
+        parts = node.values
+    return {name for part in parts for name in walked_names(part)}
+
+
+def changed_names(nodes):
+    """The names of what the statements change in its place."""
+    found = set()
+    for node in [part for one in nodes for part in ast.walk(one)]:
+        if isinstance(node, ast.Call) and isinstance(node.func, ast.Attribute) and node.func.attr in CHANGING:
+            found.add(node.func.value)
+        elif isinstance(node, ast.Subscript) and isinstance(node.ctx, (ast.Store, ast.Del)):
+            found.add(node.value)
+        elif isinstance(node, ast.AugAssign):
+            found.add(node.target)
+    return {node.id for node in found if isinstance(node, ast.Name)}
+
+
+def walked_and_changed(function):
+    """The rows of the loops in a function that change what they walk, by whatever name."""
+    alike = alike_names(function)
+    for node in ast.walk(function):
+        if isinstance(node, ast.For):
+            walked = {name for one in walked_names(node.iter) for name in alike[one]}
+            if walked & changed_names(node.body):
+                yield node.lineno
 
 
 class TestLanguage(unittest.TestCase):
@@ -177,6 +230,19 @@ class TestLanguage(unittest.TestCase):
                     around = parents[node]
                     right = isinstance(around, (ast.For, ast.comprehension, ast.Assign))
                     self.assertTrue(right or called(around) in TAKERS, (name, node.lineno))
+
+    def test_what_a_loop_walks_is_not_changed_in_it(self):
+        for name, node in self.nodes(ast.FunctionDef):
+            self.assertEqual(list(walked_and_changed(node)), [], (name, node.name))
+
+    def test_that_loops_which_change_what_they_walk_are_seen(self):
+        for rows, wrong in (
+                ("for a in xs:\n  xs.append(a)", [2]), ("for a in list(xs):\n  xs.append(a)", []),
+                ("for a in xs:\n  ys.append(a)", []), ("for a in xs:\n  ys.append(a)\n xs = ys", [2]),
+                ("ys = xs\n for a in enumerate(xs):\n  del ys[0]", [3]), ("for a in xs.items():\n  xs[0] = a", [2]),
+                ("for a in (xs if xs else ys):\n  ys.pop()", [2]), ("for a in zip(ys, xs):\n  ys += [1]", [2])):
+            tree = ast.parse("def told(xs, ys):\n " + rows)
+            self.assertEqual(list(walked_and_changed(tree.body[0])), wrong, rows)
 
 
 if __name__ == "__main__":
