@@ -1,8 +1,9 @@
-"""What the sums of windows are about: groups, ends and pairs, their weights and allowances."""
+"""What the sums of windows are about: groups, ends and pairs, their ways, weights and allowances."""
 
 from coveredday.errors import BadEnd, SamePair
 from coveredday.names import assets, check_asset, pairs_of
-from coveredday.phases import ENDS
+from coveredday.phases import ENDS, openings, states, steps
+from coveredday.ways import Ways
 
 
 def check_end(thing):
@@ -41,3 +42,11 @@ def weight_of(table, up, down):
 def allowance(plan, group, end, up, down):
     """How great the sum of a window may be without the house having to pay."""
     return plan.cover_table(group)[up, down] if end == "stand" else 0
+
+
+def window_ways(plan, group, end):
+    """The ways from the openings of the group's windows to this end."""
+    known = states(plan, group)
+    arcs = [(state, step.node, step.state, step.table) for state in known for step in steps(plan, group, state)
+            if step.end in (None, end)]
+    return Ways(openings(plan, group), known, arcs)

@@ -3,14 +3,9 @@
 from coveredday.breach import Breach
 from coveredday.names import assets, pairs_of
 from coveredday.safe import Safe
-from coveredday.sums import allowance, weight_of
+from coveredday.sums import allowance, window_ways
 from coveredday.walks import shortest_walk
-from coveredday.ways import Ways, shortest_way
-
-
-def _nodes(way):
-    """The nodes that a row of steps enters."""
-    return tuple([step.node for step in way])
+from coveredday.ways import nodes_along, sum_along
 
 
 def _lead(plan, opening):
@@ -19,54 +14,17 @@ def _lead(plan, opening):
     return () if node is None else shortest_walk(plan, node, holding=phase == "holding")
 
 
-def _sum_along(way, up, down):
-    """How far a row of steps lets the pair part."""
-    return sum([weight_of(step.table, up, down) for step in way])
-
-
-def _endless_breach(plan, ways, row, arc):
-    """The breach with as few turns of a ring through the arc as are needed."""
+def _breach(plan, row, way):
+    """The breach of the way (opening, first, ring, tail), with as few turns of the ring as are needed."""
     group, end, up, down = row
-    state, step = arc
-    starts = [(opening, shortest_way(ways.arcs, opening, state)) for opening in ways.openings]
-    opening, first = [(start, way) for start, way in starts if way is not None][0]
-    ring = (step,) + shortest_way(ways.arcs, step.state, state)
-    tail = shortest_way(ways.arcs, state, None)
-    lacking = allowance(plan, group, end, up, down) - _sum_along(first + tail, up, down)
-    gain = _sum_along(ring, up, down)
-    turns = max(0, lacking // gain + 1)
+    opening, first, ring, tail = way
+    lacking = allowance(plan, group, end, up, down) - sum_along(first + tail, lambda table: table[up, down])
+    gain = sum_along(ring, lambda table: table[up, down])
+    turns = max(0, lacking // gain + 1) if ring else 0
     return Breach(
-        group, end, up, down, opening=opening, lead=_lead(plan, opening), first=_nodes(first),
-        ring=_nodes(ring) if turns else (), tail=_nodes(tail), turns=turns, phase=state[1] if turns else None,
-        excess=turns * gain - lacking)
-
-
-def _greatest_breach(plan, ways, row, numbers, excess):
-    """The breach of a window with the greatest sum, where the sum is not endless."""
-    group, end, up, down = row
-    most = max([numbers[opening] for opening in ways.openings])
-    opening = [start for start in ways.openings if numbers[start] == most][0]
-    tight = [(state, step) for state, step in ways.arcs
-             if numbers[state] == weight_of(step.table, up, down) + numbers.get(step.state, 0)]
-    first = shortest_way(tight, opening, None)
-    return Breach(
-        group, end, up, down, opening=opening, lead=_lead(plan, opening), first=_nodes(first), ring=(), tail=(),
-        turns=0, phase=None, excess=excess)
-
-
-def _judged(plan, ways, row):
-    """The pair of the breach for a group, an end and a pair, and None; or of None and the potentials."""
-    group, end, up, down = row
-    weights = ways.weights(up, down)
-    arc = ways.ring_arc(weights)
-    if arc is not None:
-        return _endless_breach(plan, ways, row, arc), None
-    numbers = ways.greatest(weights)
-    most = max([numbers[opening] for opening in ways.openings], default=0)
-    excess = most - allowance(plan, group, end, up, down)
-    if excess > 0:
-        return _greatest_breach(plan, ways, row, numbers, excess), None
-    return None, tuple(numbers.items())
+        group, end, up, down, opening=opening, lead=_lead(plan, opening), first=nodes_along(first),
+        ring=nodes_along(ring) if turns else (), tail=nodes_along(tail), turns=turns,
+        phase=ring[0][0][1] if turns else None, excess=turns * gain - lacking)
 
 
 def verdict(plan):
@@ -74,11 +32,12 @@ def verdict(plan):
     papers = []
     for group in plan.group_names:
         for end in ("free", "stand"):
-            ways = Ways(plan, group, end)
+            ways = window_ways(plan, group, end)
             for up, down in pairs_of(assets(plan.goods)):
                 row = (group, end, up, down)
-                found, numbers = _judged(plan, ways, row)
-                if found is not None:
-                    return found
-                papers.append(row + (numbers,))
+                weights = ways.weights(lambda table: table[up, down])
+                numbers = ways.greatest(weights)
+                if numbers is None or ways.most(numbers) > allowance(plan, group, end, up, down):
+                    return _breach(plan, row, ways.longest_way(weights))
+                papers.append(row + (tuple(numbers.items()),))
     return Safe(papers)

@@ -39,6 +39,11 @@ FUNCTIONS = {
     "verdict": ["verdict(plan)"],
     "verdictjudge": ["safe_fault(plan, papers)", "breach_fault(plan, breach)"],
     "daymaker": ["day_of(plan, breach)"],
+    "closing": ["close_out(cash, position, prices)"],
+    "play": ["tried(house, deeds)", "play(plan, day, *, parcels=None)"],
+    "views": ["known(plan, told, walk, behind=None)"],
+    "sights": ["sight(plan, group, node)", "sights(plan, group, walk)"],
+    "calls": ["call(outlook, account, told)"],
 }
 CLASSES = {
     "orders Order(member, thing, side, count, limit)": ["sign", "of_count(self, count)", "__eq__(self, other)"],
@@ -82,6 +87,25 @@ CLASSES = {
         "of(self, word)", "since(self, count)", "cash_change(self, member)", "__iter__(self)", "__len__(self)",
         "__eq__(self, other)"],
 }
+CLASSES.update({
+    "closing Closing(worth, before, paid, cash)": ["__eq__(self, other)"],
+    "house House(plan, prices, members, *, parcels=None)": [
+        "place_now", "true_prices", "told_prices", "paid_total", "street_cash", "street_position", "member_names",
+        "enter(self, node, move=None)", "order(self, member, thing, side, count, limit)", "cancel(self, number)",
+        "pay_in(self, member, amount)", "pay_out(self, member, amount)", "apart(self, member, parcel, count)",
+        "together(self, member, parcel, count)", "trade(self, buyer, seller, thing, count)", "notice(self, member)",
+        "do(self, deed)", "group_of(self, member)", "cash_of(self, member)", "position_of(self, member)",
+        "holdings_of(self, member)", "orders_of(self, member)", "is_marked(self, member)", "account_of(self, member)",
+        "slack_of(self, member)", "daybook(self)", "trial(self)"],
+    "views View(plan, told, walk, behind)": [
+        "bounds(self, up, down)", "loss(self, position)", "equities(self, cash, position)",
+        "worst_moves(self, position)"],
+    "longwalk LongWalk(amount, behind, first, ring=(), tail=())": ["gone(self, turns=0)", "is_endless"],
+    "sights Outlook(plan, group, seen=())": [
+        "seen", "places", "coming", "see(self, word)", "loss(self, position)", "bounds(self, told, up, down)",
+        "worst_walk(self, position)"],
+    "calls Call(amount, *, slack, taken, behind, first, ring=(), tail=())": [],
+})
 GENERATORS = ("windows windows", "account Account.corners")
 
 

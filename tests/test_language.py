@@ -216,6 +216,26 @@ class TestLanguage(unittest.TestCase):
             if isinstance(node.func, ast.Attribute):
                 self.assertIn(node.func.attr, METHODS | own, (name, node.lineno))
 
+    def test_own_methods_are_called_where_they_stand(self):
+        stored = {node.attr for _, node in self.nodes(ast.Attribute) if isinstance(node.ctx, ast.Store)}
+        own = {part.name for _, node in self.nodes(ast.ClassDef) for part in node.body
+               if isinstance(part, ast.FunctionDef) and not part.decorator_list} - stored
+        for name, tree in self.trees.items():
+            parents = parents_of(tree)
+            for node in ast.walk(tree):
+                if isinstance(node, ast.Attribute) and node.attr in own:
+                    around = parents[node]
+                    self.assertTrue(isinstance(around, ast.Call) and around.func is node, (name, node.lineno, node.attr))
+
+    def test_what_stands_in_exits(self):
+        for name, node in self.nodes(ast.FunctionDef):
+            if node.name == "__exit__":
+                self.assertEqual([arg.arg for arg in node.args.args], ["self", "kind", "value", "trace"])
+                for part in node.body:
+                    rows = part.value if isinstance(part, ast.Expr) else None
+                    right = isinstance(rows, ast.Call) and rows.func.attr == "append" and isinstance(rows.args[0], ast.Attribute)
+                    self.assertTrue(right, (name, part.lineno))
+
     def test_sets_and_what_is_iterated_at_once(self):
         for name, tree in self.trees.items():
             parents = parents_of(tree)

@@ -21,7 +21,7 @@ class TestShortestRows(Promises):
             self.assertEqual(lengths, sorted(lengths))
             reached = {start: {()} for start in starts}
             for length in range(count):
-                self.same({state for state in rows if len(rows[state]) == length},
+                self.assertEqual({state for state in rows if len(rows[state]) == length},
                           {state for state in reached if min(map(len, reached[state])) == length})
                 for state in list(reached):
                     for row in [row for row in reached[state] if len(row) == length]:
