@@ -39,8 +39,8 @@ def _arcs(outlook, state):
 
 
 def _way_call(amount, least, taken, way):
-    """The call that this way (start, first, ring, tail) shows."""
-    start, first, ring, tail = way
+    """The call that this way (loss, start, first, ring, tail) shows."""
+    _, start, first, ring, tail = way
     return Call(amount, slack=least, taken=taken, behind=start[1], first=nodes_along(first), ring=nodes_along(ring),
                 tail=nodes_along(tail))
 

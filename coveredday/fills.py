@@ -1,6 +1,7 @@
 """Equity and slack, the worst fill of an account, and the orders to cancel so that it is covered."""
 
 from coveredday.cover import cover, cover_amount
+from coveredday.indexsets import least_sets
 
 
 def equity(cash, position, prices):
@@ -36,18 +37,6 @@ def is_covered(account, prices, table):
     return worst_fill(account, prices, table).slack >= 0
 
 
-def _index_sets(count):
-    """All sets of indices below count as ascending tuples, the small ones first."""
-    sets = [tuple([index for index in range(count) if mask >> index & 1]) for mask in range(1 << count)]
-    return sorted(sets, key=lambda indices: (len(indices), indices))
-
-
 def least_cancels(account, prices, table):
     """The least sets of orders without which the account is covered, as tuples of indices."""
-    found = []
-    for indices in _index_sets(len(account.orders)):
-        # All proper subsets came earlier: the set is needed only if it contains none that is enough.
-        within = [all([index in indices for index in enough]) for enough in found]
-        if not any(within) and is_covered(account.without(indices), prices, table):
-            found.append(indices)
-    return tuple(found)
+    return least_sets(len(account.orders), lambda indices: is_covered(account.without(indices), prices, table))

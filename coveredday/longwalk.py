@@ -23,7 +23,9 @@ class LongWalk:
     def gone(self, turns=0):
         """The walk with so many turns, any object, of the ring."""
         check_turns(turns)
-        return self.first + self.ring * turns + self.tail
+        # Without a ring the number of turns may be too great for a repetition.
+        turned = self.ring * turns if self.ring else ()
+        return self.first + turned + self.tail
 
     @property
     def is_endless(self):

@@ -59,6 +59,12 @@ def openings(plan, group):
     return tuple(found)
 
 
+def lead_to(plan, opening):
+    """A shortest walk up to an opening, past a desk or free node if something is held there."""
+    node, phase = opening
+    return () if node is None else shortest_walk(plan, node, holding=phase == "holding")
+
+
 class Step:
     """A step of a window: the node entered, the state behind it or None, the edge's table, the end or None."""
 

@@ -4,7 +4,7 @@ from coveredday.errors import BadPlan, NoEdge, NoGroup, NoNode, NoTable
 from coveredday.names import checked_goods, is_name, is_row, is_sequence
 from coveredday.tables import Table
 
-_MOST_TABLES = 8
+MOST_TABLES = 8
 _MOST_GROUPS = 3
 _MOST_NODES = 12
 _MOST_FOLLOWERS = 4
@@ -27,7 +27,7 @@ def names_of(rows):
 
 def _checked_tables(goods, tables):
     """The tables, any object, as a tuple of (name, Table)."""
-    if not _has_length(tables, _MOST_TABLES):
+    if not _has_length(tables, MOST_TABLES):
         raise BadPlan("tables", None)
     kept = []
     for at, row in enumerate(tables):

@@ -88,9 +88,7 @@ class Outlook:
         """A walk since the last telling on which the position can have lost the most."""
         check_same_goods(self.plan.goods, position)
         ways = self._ways()
-        weights = ways.weights(lambda table: cover_amount(position, table))
-        start, first, ring, tail = ways.longest_way(weights)
-        amount = None if ring else ways.most(ways.greatest(weights))
+        amount, start, first, ring, tail = ways.longest_way(ways.weights(lambda table: cover_amount(position, table)))
         return LongWalk(amount, start[1], nodes_along(first), nodes_along(ring), nodes_along(tail))
 
     def tellings(self):

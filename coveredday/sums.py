@@ -1,5 +1,6 @@
 """What the sums of windows are about: groups, ends and pairs, their ways, weights and allowances."""
 
+from coveredday.cover import cover_amount
 from coveredday.errors import BadEnd, SamePair
 from coveredday.names import assets, check_asset, pairs_of
 from coveredday.phases import ENDS, openings, states, steps
@@ -42,6 +43,11 @@ def weight_of(table, up, down):
 def allowance(plan, group, end, up, down):
     """How great the sum of a window may be without the house having to pay."""
     return plan.cover_table(group)[up, down] if end == "stand" else 0
+
+
+def backing(plan, group, end, position):
+    """What stands behind a position when a window with this end begins to count."""
+    return cover_amount(position, plan.cover_table(group)) if end == "stand" else 0
 
 
 def window_ways(plan, group, end):

@@ -2,27 +2,21 @@
 
 from coveredday.breach import Breach
 from coveredday.names import assets, pairs_of
+from coveredday.phases import lead_to
 from coveredday.safe import Safe
 from coveredday.sums import allowance, window_ways
-from coveredday.walks import shortest_walk
 from coveredday.ways import nodes_along, sum_along
 
 
-def _lead(plan, opening):
-    """A walk up to the opening."""
-    node, phase = opening
-    return () if node is None else shortest_walk(plan, node, holding=phase == "holding")
-
-
 def _breach(plan, row, way):
-    """The breach of the way (opening, first, ring, tail), with as few turns of the ring as are needed."""
+    """The breach of the way (sum, opening, first, ring, tail), with as few turns of the ring as are needed."""
     group, end, up, down = row
-    opening, first, ring, tail = way
+    _, opening, first, ring, tail = way
     lacking = allowance(plan, group, end, up, down) - sum_along(first + tail, lambda table: table[up, down])
     gain = sum_along(ring, lambda table: table[up, down])
     turns = max(0, lacking // gain + 1) if ring else 0
     return Breach(
-        group, end, up, down, opening=opening, lead=_lead(plan, opening), first=nodes_along(first),
+        group, end, up, down, opening=opening, lead=lead_to(plan, opening), first=nodes_along(first),
         ring=nodes_along(ring) if turns else (), tail=nodes_along(tail), turns=turns,
         phase=ring[0][0][1] if turns else None, excess=turns * gain - lacking)
 

@@ -97,8 +97,9 @@ class Ways:
         return max([numbers[start] for start in self.starts], default=0)
 
     def longest_way(self, weights):
-        """A start, and rows of arcs from there to the end: the tuple (start, first, ring, tail). Without a ring
-        it is a way of the greatest sum with as few arcs as can be; with one, the sums are endless. There are ways."""
+        """The greatest sum, a start, and rows of arcs from there to the end that show it: the tuple
+        (sum, start, first, ring, tail). Without a ring there are as few arcs as can be; with one, the
+        sums are endless, and the sum is None. There are ways."""
         arc = self._ring_arc(weights)
         return self._straight_way(weights) if arc is None else self._turning_way(arc)
 
@@ -114,7 +115,7 @@ class Ways:
         found = [(start, _shortest_way(self.arcs, start, state)) for start in self.starts]
         start, first = [(start, way) for start, way in found if way is not None][0]
         ring = (arc,) + _shortest_way(self.arcs, other, state)
-        return start, first, ring, _shortest_way(self.arcs, state, None)
+        return None, start, first, ring, _shortest_way(self.arcs, state, None)
 
     def _straight_way(self, weights):
         numbers = self.greatest(weights)
@@ -124,4 +125,4 @@ class Ways:
                  if numbers[arc[0]] == weight + (0 if arc[2] is None else numbers[arc[2]])]
         found = [(start, _shortest_way(tight, start, None)) for start in self.starts if numbers[start] == most]
         start, first = min(found, key=lambda row: len(row[1]))
-        return start, first, (), ()
+        return most, start, first, (), ()

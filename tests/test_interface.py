@@ -44,6 +44,16 @@ FUNCTIONS = {
     "views": ["known(plan, told, walk, behind=None)"],
     "sights": ["sight(plan, group, node)", "sights(plan, group, walk)"],
     "calls": ["call(outlook, account, told)"],
+    "needs": ["need(plan, group, position, *, end='stand')", "pays_at_most(plan, group, position, *, end='stand')"],
+    "needdays": ["day_of_need(plan, told, turns=0)"],
+    "least": [
+        "least_table(plan, group)", "is_enough(plan, group, table)", "spare(plan, group)",
+        "reason(plan, group, end, up, down)"],
+    "changes": ["changed(plan, changes)", "alone(plan, group, table=None)", "shorter(plan)"],
+    "repairs": ["least_repairs(plan, pool)", "least_kept(plan, names)"],
+    "alike": ["alike(one, other)"],
+    "tabletext": ["table_text(table)", "read_table(text)", "table_lines(table)"],
+    "plantext": ["plan_text(plan)", "read_plan(text)"],
 }
 CLASSES = {
     "orders Order(member, thing, side, count, limit)": ["sign", "of_count(self, count)", "__eq__(self, other)"],
@@ -105,6 +115,12 @@ CLASSES.update({
         "seen", "places", "coming", "see(self, word)", "loss(self, position)", "bounds(self, told, up, down)",
         "worst_walk(self, position)"],
     "calls Call(amount, *, slack, taken, behind, first, ring=(), tail=())": [],
+    "needs Need(amount, *, group, position, end, opening, first, ring=(), tail=())": [],
+    "repairs Repairs(plan, pool, plans, papers)": [
+        "fate(self, choice)", "paper(self, choice)", "plan_of(self, choice)", "__iter__(self)", "__len__(self)",
+        "__contains__(self, x)"],
+    "alike Alike(least)": ["is_alike"],
+    "alike Unlike(group, cover, safe, pair, plan, breach)": ["is_alike", "day(self)"],
 })
 GENERATORS = ("windows windows", "account Account.corners")
 

@@ -176,8 +176,10 @@ class TestLanguage(unittest.TestCase):
                 __builtins__, dict) else __builtins__), name)
             read = {node.id for node in ast.walk(tree) if isinstance(node, ast.Name) and isinstance(node.ctx, ast.Load)}
             caught = {node.name for node in ast.walk(tree) if isinstance(node, ast.ExceptHandler)}
+            captured = {node.name for node in ast.walk(tree) if isinstance(node, ast.MatchAs) and node.name}
+            self.assertFalse(captured & (bound | own | module | classes), name)
             self.assertFalse(caught & (bound | own | module | local | stored), name)
-            self.assertLessEqual(read, own | bound | module | local | stored | caught | BUILTINS, name)
+            self.assertLessEqual(read, own | bound | module | local | stored | caught | captured | BUILTINS, name)
             self.assertNotIn("_", read)
             words = set(re.findall(r"\w+", "\n".join(self.without_docstrings(name))))
             self.assertFalse(words & BARRED, name)

@@ -23,7 +23,8 @@ class TestLongWalks(Promises):
         self.same((walk.gone(), walk.gone(0), walk.gone(1)), (("a", "b", "e"), ("a", "b", "e"), ("a", "b", "c", "d", "e")))
         self.same(walk.gone(turns=2), ("a", "b", "c", "d", "c", "d", "e"))
         self.same(len(walk.gone(4998)), 9999)
-        self.same(LongWalk(4, None, ("a",)).gone(5000), ("a",))
+        for turns in (5000, 10 ** 12, 10 ** 40):
+            self.same(LongWalk(4, None, ("a",), tail=("b",)).gone(turns), ("a", "b"))
 
     def test_wrong_turns(self):
         walk = LongWalk(None, "x", (), ("c",), ())
