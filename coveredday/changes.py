@@ -2,7 +2,7 @@
 
 from coveredday.errors import BadChange, CannotBe, MarketError, TooManyTables
 from coveredday.names import MOST, check_same_goods, is_name, is_row, is_sequence, is_whole
-from coveredday.plan import MOST_TABLES, Plan, names_of
+from coveredday.plan import MOST_TABLES, PLAIN_KINDS, Plan, names_of
 from coveredday.tables import made_table
 from coveredday.walks import reachable
 
@@ -15,14 +15,13 @@ _SHAPES = {
     "cut": ("one", "other"),
     "calm": ("one", "other", "calm"),
 }
-_PLAIN_KINDS = ("tell", "desk", "free", "close", "rest")
 _COVER_NAMES = ("cover", "covera", "coverb", "coverc", "coverd", "covere", "coverf", "coverg", "coverh")
 
 
 def _is_step(thing):
     """Whether thing, any object, has the shape of a step."""
     if is_row(thing, 1):
-        return thing[0] in _PLAIN_KINDS
+        return thing[0] in PLAIN_KINDS
     if not is_row(thing, 2):
         return False
     if thing[0] == "look":
@@ -64,7 +63,6 @@ def _with_nodes(plan, nodes):
 
 def _with_node(plan, node, step, followers, more=()):
     """The plan with this step and these followers of the node, and with more nodes behind the others."""
-    plan.check_node(node)
     nodes = [(name, step, followers) if name == node else (name, old, near) for name, old, near in plan.nodes]
     return _with_nodes(plan, nodes + list(more))
 

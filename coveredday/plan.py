@@ -5,6 +5,8 @@ from coveredday.names import checked_goods, is_name, is_row, is_sequence
 from coveredday.tables import Table
 
 MOST_TABLES = 8
+# The steps of these kinds are the kind alone.
+PLAIN_KINDS = ("tell", "desk", "free", "close", "rest")
 _MOST_GROUPS = 3
 _MOST_NODES = 12
 _MOST_FOLLOWERS = 4
@@ -61,7 +63,7 @@ def _is_step(step, table_names, group_names):
         return len(step) == 2 and step[1] in table_names
     if step[0] == "look":
         return len(step) == 2 and _is_look(step[1], group_names)
-    return len(step) == 1 and step[0] in Plan.KINDS
+    return len(step) == 1 and step[0] in PLAIN_KINDS
 
 
 def _is_look(groups, group_names):

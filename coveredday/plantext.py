@@ -1,11 +1,10 @@
 """Texts of plans."""
 
 from coveredday.errors import BadText
-from coveredday.plan import Plan
+from coveredday.plan import PLAIN_KINDS, Plan
 from coveredday.tabletext import goods_line, is_row_line, read_goods, read_row, read_rows, row_lines, words_of
 
 _ARROW = "->"
-_PLAIN_KINDS = ("tell", "desk", "free", "close", "rest")
 # Lines of a kind stand behind all lines of kinds with lesser numbers.
 _ORDER = {"table": 0, "row": 0, "group": 1, "node": 2}
 
@@ -53,7 +52,7 @@ def _read_step(line, words):
         return tuple(words)
     if words[0] == "look" and len(words) > 1:
         return "look", tuple(words[1:])
-    if words[0] in _PLAIN_KINDS and len(words) == 1:
+    if words[0] in PLAIN_KINDS and len(words) == 1:
         return tuple(words)
     raise BadText(line, "step")
 

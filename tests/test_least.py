@@ -169,6 +169,9 @@ class TestReasons(Promises):
             if thing not in ("cash", "oil"):
                 self.fails(NoAsset, (thing,), reason, plan, "firm", "stand", thing, thing)
                 self.fails(NoAsset, (thing,), reason, plan, "firm", "stand", "oil", thing)
+        for up, down, wrong in (("x", "y", "x"), ("x", "oil", "x"), ("oil", "y", "y"), ("x", "x", "x")):
+            for end in ENDS:
+                self.fails(NoAsset, (wrong,), reason, plan, "firm", end, up, down)
         self.fails(SamePair, ("cash",), reason, plan, "firm", "stand", "cash", "cash")
         self.fails(SamePair, ("oil",), reason, plan, "firm", "free", "oil", "oil")
         self.fails(Endless, ("firm", "stand", "oil", "cash"), reason, plan, "firm", "stand", "oil", "cash")

@@ -155,6 +155,9 @@ class TestErrors(Promises):
                 self.fails(SamePair, (asset,), call, plan, "firm", "stand", asset, asset)
             self.fails(NoAsset, ("rye",), call, plan, "firm", "stand", "rye", "rye")
             self.fails(BadEnd, ("out",), call, plan, "firm", "out", "oil", "oil")
+            for up, down, wrong in (("rye", "oil", "rye"), ("oil", "rye", "rye"), ("cash", None, None), (True, "tin", True)):
+                for windowless in (chain_plan(("rest",)), chain_plan(("move", "day"), ("close",))):
+                    self.fails(NoAsset, (wrong,), call, windowless, "firm", "stand", up, down)
         self.fails(Endless, ("firm", "stand", "oil", "cash"), potentials, plan, "firm", "stand", "oil", "cash")
 
 

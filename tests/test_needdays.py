@@ -28,7 +28,7 @@ class TestDays(Promises):
         """Plays the day of a need; what the house paid."""
         day = day_of_need(plan, told, turns)
         self.same(type(day), Day)
-        self.assertTrue(day == day_of_need(plan, told, turns))
+        self.assertTrue(day == day_of_need(plan, told, turns) and (turns or day == day_of_need(plan, told)))
         self.same((day.prices, {row[1] for row in day.members}), ((0,) * len(plan.goods), {told.group}))
         node, phase = told.opening
         lead = () if node is None else shortest_walk(plan, node, holding=phase == "holding")
